@@ -83,6 +83,21 @@ func told(pan string, amount, trace int, code, place string) string {
 	return about("0110", pan, amount, trace, code, place)
 }
 
+// back: take it back, or it was taken back.
+func back(kind, pan string, amount, trace int, place string) string {
+	return about(kind, pan, amount, trace, "", place)
+}
+
+// backAs: the same, with a name.
+func backAs(kind, pan string, amount, trace int, place, name string) string {
+	return bcd(kind) + askAs(pan, amount, trace, place, name)[2:]
+}
+
+// toldBack: the answer to back.
+func toldBack(kind, pan string, amount, trace int, code, place string) string {
+	return about(map[string]string{"0400": "0410", "0420": "0430"}[kind], pan, amount, trace, code, place)
+}
+
 func askTotal(trace int) string { return bcd("0500") + bitmap(11) + bcd(fmt.Sprintf("%06d", trace)) }
 
 func toldTotal(trace, amount, more int) string {
@@ -157,6 +172,14 @@ func wantTotal(t *testing.T, s *swipe.Switch, want int) {
 		t.Errorf("P12: Total() = %d, want %d", n, want)
 	}
 	wantAnswer(t, s, askTotal(9), toldTotal(9, want%1000000000000, want/1000000000000))
+}
+
+// wantReport: this is told of the cards.
+func wantReport(t *testing.T, s *swipe.Switch, want ...string) {
+	t.Helper()
+	if got := s.Report(); !slices.Equal(got, want) {
+		t.Errorf("P12: Report() = %q, want %q", got, want)
+	}
 }
 
 // wantClosed: just these connections are closed.

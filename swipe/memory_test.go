@@ -52,6 +52,7 @@ func TestNewKeepsNothing(t *testing.T) {
 	wantAnswer(t, s, ask(ann, 5, 1, here), told(ann, 5, 1, "00", here))
 	wantAnswer(t, s, ask(cat, 5, 1, here), told(cat, 5, 1, "15", here))
 	wantLeft(t, s, ann, 495)
+	wantReport(t, s, "400000******0002 Ann          495", "410000***0013 Bob          1000", "500000**0003 Cat          1000")
 }
 
 func TestServeKeepsNothing(t *testing.T) {
@@ -74,6 +75,12 @@ func TestServeKeepsNothing(t *testing.T) {
 	wantAnswer(t, s, ask(ann, 7, 1, here), told(ann, 5, 1, "00", here))
 	wantAnswer(t, s, ask(ann, 7, 1, "########"), told(ann, 7, 1, "00", "########"))
 	wantLeft(t, s, ann, 488)
+	third, giveThird := lent(framed(back("0400", ann, 4, 1, here)))
+	served(t, s, api.Chunk{Conn: 1, Data: third})
+	giveThird()
+	wantAnswer(t, s, back("0400", ann, 3, 1, here), toldBack("0400", ann, 4, 1, "00", here))
+	wantAnswer(t, s, back("0400", ann, 3, 1, "########"), toldBack("0400", ann, 3, 1, "00", "########"))
+	wantLeft(t, s, ann, 495)
 }
 
 func TestWhatIsHandedInIsNotWrittenInto(t *testing.T) {
@@ -103,6 +110,21 @@ func TestServeGivesNewLists(t *testing.T) {
 		t.Errorf("P2: a list that came out was changed through another: %q", second)
 	}
 	wantServed(t, s, []api.Chunk{chunk}, map[int]string{1: framed(told(ann, 5, 1, "00", here))})
+}
+
+func TestReportGivesNewLists(t *testing.T) {
+	s := made(t, usual())
+	want := []string{"400000******0002 Ann          500", "410000***0013 Bob          1000", "500000**0003 Cat          1000"}
+	first := s.Report()
+	second := s.Report()
+	first = first[:cap(first)]
+	for k := range first {
+		first[k] = "spoilt"
+	}
+	if !slices.Equal(second, want) {
+		t.Errorf("P2: a list that came out was changed through another: %q", second)
+	}
+	wantReport(t, s, want...)
 }
 
 // TestWorkersHaveEnded: no goroutine goes on behind the answer.
@@ -140,6 +162,7 @@ func TestOddInputsEndWithoutAPanic(t *testing.T) {
 			swipe.New(api.Config{Cards: []api.Card{{Pan: ann, Limit: n, Name: text}}, Shards: 1})
 		}
 		s.Left(text)
+		s.Report()
 	}
 	if s.Total() != 0 {
 		t.Errorf("P12: Total() = %d, want 0", s.Total())
@@ -148,15 +171,17 @@ func TestOddInputsEndWithoutAPanic(t *testing.T) {
 
 // TestEachByteOfARequestInTurn: a frame with any one byte changed is answered, and by a message of some kind that is an answer.
 func TestEachByteOfARequestInTurn(t *testing.T) {
-	good := askAs(ann, 5, 1, here, "Zoë")
 	kinds := []string{bcd("0110"), bcd("0410"), bcd("0430"), bcd("9990")}
-	for at := range good {
-		s := made(t, usual())
-		for b := range 256 {
-			frame := good[:at] + string([]byte{byte(b)}) + good[at+1:]
-			answer := served(t, s, api.Chunk{Conn: 0, Data: framed(frame)})[0]
-			if len(answer) < 12 || framed(answer[2:]) != answer || !slices.Contains(kinds, answer[2:4]) {
-				t.Errorf("P8: %q is answered %q", frame, answer)
+	for _, good := range []string{askAs(ann, 5, 1, here, "Zoë"), backAs("0400", ann, 5, 1, here, "Zoë"), back("0420", ann, 5, 1, here)} {
+		for at := range good {
+			s := made(t, usual())
+			served(t, s, api.Chunk{Conn: 0, Data: framed(ask(ann, 50, 1, here))})
+			for b := range 256 {
+				frame := good[:at] + string([]byte{byte(b)}) + good[at+1:]
+				answer := served(t, s, api.Chunk{Conn: 0, Data: framed(frame)})[0]
+				if len(answer) < 12 || framed(answer[2:]) != answer || !slices.Contains(kinds, answer[2:4]) {
+					t.Errorf("P8: %q is answered %q", frame, answer)
+				}
 			}
 		}
 	}

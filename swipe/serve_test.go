@@ -329,21 +329,6 @@ func TestManyFrames(t *testing.T) {
 	wantTotal(t, s, 1000)
 }
 
-// TestTakingBackIsAnswered: whatever is answered in the end, it is one message about this card.
-func TestTakingBackIsAnswered(t *testing.T) {
-	s := made(t, usual())
-	for kind, answer := range map[string]string{"0400": "0410", "0420": "0430"} {
-		wantAnswer(t, s, about(kind, cat, 5, 1, "", here), about(answer, cat, 5, 1, "15", here))
-		wantAnswer(t, s, about(kind, nobody, 5, 1, "", here), about(answer, nobody, 5, 1, "14", here))
-		wantAnswer(t, s, about(kind, ann, 5, 1, "", here), about(answer, ann, 5, 1, "25", here))
-	}
-	wantLeft(t, s, ann, 500)
-	wantTotal(t, s, 0)
-	// Nor is it the request with whose trace it comes.
-	wantAnswer(t, s, ask(ann, 500, 1, here), told(ann, 500, 1, "00", here))
-	wantTotal(t, s, 500)
-}
-
 func TestErrorsOfLeftAndClosedChangeNothing(t *testing.T) {
 	s := made(t, usual())
 	for k := range 20 {

@@ -14,7 +14,7 @@ type task struct {
 	request api.Message
 	account *account // nil, unless a worker is to answer
 	answer  string   // as a frame
-	spent   int
+	spent   int      // less than 0, if it was taken back
 }
 
 // receive tells what is to be done, in the order in which it came. What hangs on no other frame is answered already.
@@ -105,13 +105,10 @@ func (s *Switch) shareOut(tasks []task) [][]*task {
 	return shares
 }
 
-// do answers what is asked of a card. (Nothing is taken back yet, and the answer says so.)
+// do answers what is asked of a card.
 func (t *task) do() {
-	v := verdict{amount: t.request.Amount, code: codeNoSpend}
-	if t.request.Kind == askSpend {
-		v, t.spent = t.account.spend(t.request)
-	}
-	t.answer = ruling(t.request, v)
+	v, spent := t.account.settle(t.request)
+	t.answer, t.spent = ruling(t.request, v), spent
 }
 
 // reply tells the answers of each connection. It goes through the tasks in order, so that each total has just what was spent ahead of it.
